@@ -417,23 +417,30 @@ func TestFormatBigInt(t *testing.T) {
 	}
 }
 
-// guarded returns a number with these digits in the middle of a larger array,
-// and that array, so that a write to the digits, before them or to their
-// unused capacity shows.
-func guarded(b impl.BigInt) (impl.BigInt, []int) {
-	array := append([]int{7, 7}, b.Digits...)
-	array = append(array, make([]int, 2*digitLimit+4)...)
-	for i := 2 + len(b.Digits); i < len(array); i++ {
-		array[i] = 7
-	}
-	return impl.BigInt{Digits: array[2 : 2+len(b.Digits)]}, array
+// guardedInts returns these numbers in the middle of a larger array, and that
+// array, so that a write to the numbers, before them or to their unused
+// capacity shows.
+func guardedInts(numbers []int) (inside, array []int) {
+	const before, behind = 2, 2*digitLimit + 4
+	guard := slices.Repeat([]int{7}, behind)
+	array = slices.Concat(guard[:before], numbers, guard)
+	return array[before : before+len(numbers)], array
 }
 
-func overwrite(b impl.BigInt) {
-	all := b.Digits[:cap(b.Digits)]
+func guarded(b impl.BigInt) (impl.BigInt, []int) {
+	digits, array := guardedInts(b.Digits)
+	return impl.BigInt{Digits: digits}, array
+}
+
+func overwriteInts(numbers []int) {
+	all := numbers[:cap(numbers)]
 	for i := range all {
 		all[i] = 55
 	}
+}
+
+func overwrite(b impl.BigInt) {
+	overwriteInts(b.Digits)
 }
 
 func TestBigIntArgumentsAreNotModified(t *testing.T) {
@@ -488,23 +495,28 @@ func TestBigIntsMayOverlap(t *testing.T) {
 	}
 }
 
+// checkFreshBigInt overwrites the result of one call and looks for the change in
+// those of two other calls.
+func checkFreshBigInt(t *testing.T, call func() impl.BigInt) {
+	t.Helper()
+	first, again := call(), call()
+	want := impl.BigInt{Digits: slices.Clone(again.Digits)}
+	overwrite(first)
+	// The next call might restore the digits that were overwritten.
+	kept := impl.BigInt{Digits: slices.Clone(again.Digits)}
+	if later := call(); !sameBigInts(kept, want) || !sameBigInts(later, want) {
+		t.Errorf("the result %v changes with the previous one", want)
+	}
+}
+
 func TestBigIntResultsShareNoMemory(t *testing.T) {
 	for _, n := range []int{math.MinInt, -1, 0, 1, 9, 10, 4070, math.MaxInt} {
-		first := impl.BigIntFromInt(n)
-		again := impl.BigIntFromInt(n)
-		want := impl.BigInt{Digits: slices.Clone(again.Digits)}
-		overwrite(first)
-		if later := impl.BigIntFromInt(n); !sameBigInts(again, want) || !sameBigInts(later, want) {
-			t.Errorf("BigIntFromInt(%d) changes with its previous result", n)
-		}
+		checkFreshBigInt(t, func() impl.BigInt { return impl.BigIntFromInt(n) })
 		for exponent := range 4 {
-			first, _ := impl.PowBigInt(n, exponent)
-			again, _ := impl.PowBigInt(n, exponent)
-			want := impl.BigInt{Digits: slices.Clone(again.Digits)}
-			overwrite(first)
-			if later, _ := impl.PowBigInt(n, exponent); !sameBigInts(again, want) || !sameBigInts(later, want) {
-				t.Errorf("PowBigInt(%d, %d) changes with its previous result", n, exponent)
-			}
+			checkFreshBigInt(t, func() impl.BigInt {
+				power, _ := impl.PowBigInt(n, exponent)
+				return power
+			})
 		}
 	}
 }
