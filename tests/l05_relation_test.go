@@ -839,22 +839,29 @@ func TestParseRelationAcceptsNothingElse(t *testing.T) {
 	}
 }
 
-// TestParseRelationWithOneChange changes, removes and inserts each byte.
+// changesOf returns the string with each byte changed, removed or inserted at
+// each place, and cut off there.
+func changesOf(s string) []string {
+	var changes []string
+	for i := range len(s) + 1 {
+		for k := range 256 {
+			changes = append(changes, s[:i]+string([]byte{byte(k)})+s[i:])
+			if i < len(s) {
+				changes = append(changes, s[:i]+string([]byte{byte(k)})+s[i+1:])
+			}
+		}
+		changes = append(changes, s[:i], s[i:])
+		if i < len(s) {
+			changes = append(changes, s[:i]+s[i+1:])
+		}
+	}
+	return changes
+}
+
 func TestParseRelationWithOneChange(t *testing.T) {
 	for _, r := range smallRelations() {
-		s := plainFormatRelation(r)
-		for i := range len(s) + 1 {
-			for k := range 256 {
-				checkParseRelation(t, s[:i]+string([]byte{byte(k)})+s[i:])
-				if i < len(s) {
-					checkParseRelation(t, s[:i]+string([]byte{byte(k)})+s[i+1:])
-				}
-			}
-			checkParseRelation(t, s[:i])
-			checkParseRelation(t, s[i:])
-			if i < len(s) {
-				checkParseRelation(t, s[:i]+s[i+1:])
-			}
+		for _, changed := range changesOf(plainFormatRelation(r)) {
+			checkParseRelation(t, changed)
 		}
 	}
 }
