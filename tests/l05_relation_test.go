@@ -970,8 +970,28 @@ func relationCalls() []relationCall {
 	}
 }
 
-// checkMemory calls each function with guarded arguments, overwrites its result
-// and looks for the change in the arguments and in other results.
+// memoryProblem overwrites the result of a call and looks for the change in the
+// results of other calls and in the arguments.
+func memoryProblem(call func() (impl.Relation, bool), areArgumentsAsBefore func() bool) string {
+	result, ok := call()
+	want := cloneOf(result)
+	again, againOk := call()
+	overwriteRows(result)
+	// The next call might restore the values that were overwritten.
+	kept := cloneOf(again)
+	later, laterOk := call()
+	switch {
+	case !sameRelations(kept, want) || !sameRelations(later, want) || againOk != ok || laterOk != ok:
+		return "the result changes with the previous one"
+	case rowsShareMemory(again):
+		return "rows of the result share memory"
+	case !areArgumentsAsBefore():
+		return "the call or a write to its result modifies an argument"
+	}
+	return ""
+}
+
+// checkMemory calls each function with guarded arguments.
 func checkMemory(t *testing.T, first, second impl.Relation, values, list []int) {
 	t.Helper()
 	a, isAAsBefore := guardedRelation(first)
@@ -979,26 +999,15 @@ func checkMemory(t *testing.T, first, second impl.Relation, values, list []int) 
 	row, rowArray := guardedInts(values)
 	columns, columnArray := guardedInts(list)
 	savedRow, savedColumns := slices.Clone(rowArray), slices.Clone(columnArray)
+	areAsBefore := func() bool {
+		return isAAsBefore() && isBAsBefore() && slices.Equal(rowArray, savedRow) && slices.Equal(columnArray, savedColumns)
+	}
 	impl.IsValidRelation(a)
 	impl.ContainsRow(a, row)
 	impl.EqualRelations(a, b)
 	for _, c := range relationCalls() {
-		result, ok := c.call(a, b, row, columns)
-		want := cloneOf(result)
-		again, againOk := c.call(a, b, row, columns)
-		overwriteRows(result)
-		kept := cloneOf(again)
-		later, laterOk := c.call(a, b, row, columns)
-		problem := ""
-		switch {
-		case !sameRelations(kept, want) || !sameRelations(later, want) || againOk != ok || laterOk != ok:
-			problem = "the result changes with the previous one"
-		case rowsShareMemory(again):
-			problem = "rows of the result share memory"
-		case !isAAsBefore() || !isBAsBefore() || !slices.Equal(rowArray, savedRow) || !slices.Equal(columnArray, savedColumns):
-			problem = "the call or a write to its result modifies an argument"
-		}
-		if problem != "" {
+		call := func() (impl.Relation, bool) { return c.call(a, b, row, columns) }
+		if problem := memoryProblem(call, areAsBefore); problem != "" {
 			t.Fatalf("%s(%s, %s, %v, %v): %s", c.name, describe(first), describe(second), values, list, problem)
 		}
 	}
