@@ -278,26 +278,31 @@ func variablesIn(set, number int) []int {
 	return variables
 }
 
-// TestGraphsOfAllSetsOfVariables takes up to four atoms with all choices of
-// their sets of variables, in one of their orders.
-func TestGraphsOfAllSetsOfVariables(t *testing.T) {
-	valid, number := 0, 0
+// queryOfSets returns the query whose atoms have these sets of variables, in
+// orders that depend on the number.
+func queryOfSets(sets []int, number int) impl.Query {
+	q := impl.Query{}
+	for i, set := range sets {
+		q.Atoms = append(q.Atoms, atom("r", variablesIn(set, number+i)...))
+		for q.VariableCount < variableLimit && set>>q.VariableCount != 0 {
+			q.VariableCount++
+		}
+	}
+	return q
+}
+
+// queriesOfAllSets returns queries of up to four atoms with all choices of their
+// sets of variables, in one of their orders.
+func queriesOfAllSets() []impl.Query {
+	var all []impl.Query
 	var extend func(sets []int)
 	extend = func(sets []int) {
-		if len(sets) > 0 {
-			number++
-			q := impl.Query{}
-			for i := range sets {
-				set := sets[(i+number)%len(sets)]
-				q.Atoms = append(q.Atoms, atom("r", variablesIn(set, number+i)...))
-				for q.VariableCount < variableLimit && set>>q.VariableCount != 0 {
-					q.VariableCount++
-				}
+		if number := len(all); len(sets) > 0 {
+			ordered := slices.Concat(sets[number%len(sets):], sets[:number%len(sets)])
+			if number/len(sets)%2 == 1 {
+				slices.Reverse(ordered)
 			}
-			if plainIsValidQuery(q) {
-				valid++
-			}
-			checkGraph(t, q, []int{-1, 0, 1, 2, 3, 4, 5})
+			all = append(all, queryOfSets(ordered, number))
 		}
 		for set := 1; len(sets) < atomLimit && set < 1<<variableLimit; set++ {
 			if len(sets) == 0 || sets[len(sets)-1] <= set {
@@ -306,8 +311,20 @@ func TestGraphsOfAllSetsOfVariables(t *testing.T) {
 		}
 	}
 	extend(nil)
+	return all
+}
+
+func TestGraphsOfAllSetsOfVariables(t *testing.T) {
+	queries := queriesOfAllSets()
+	valid := 0
+	for _, q := range queries {
+		if plainIsValidQuery(q) {
+			valid++
+		}
+		checkGraph(t, q, []int{-1, 0, 1, 2, 3, 4, 5})
+	}
 	if valid < 30000 {
-		t.Errorf("only %d of %d queries are valid", valid, number)
+		t.Errorf("only %d of %d queries are valid", valid, len(queries))
 	}
 }
 
@@ -341,18 +358,23 @@ func TestGraphOfRandomQueries(t *testing.T) {
 	}
 }
 
-// TestOutputAndNamesDoNotMatter changes what is no part of the graph.
+// withSameGraph changes what is no part of the query's graph.
+func withSameGraph(q impl.Query, number int) impl.Query {
+	changed := cloneOfQuery(q)
+	changed.Output = nil
+	for k := range changed.Atoms {
+		changed.Atoms[k].Relation = sampleNames[(number+k/2)%len(sampleNames)]
+		slices.Reverse(changed.Atoms[k].Vars)
+	}
+	return changed
+}
+
 func TestOutputAndNamesDoNotMatter(t *testing.T) {
 	for i, q := range validQueries() {
 		if i%5 != 0 {
 			continue
 		}
-		changed := cloneOfQuery(q)
-		changed.Output = nil
-		for k := range changed.Atoms {
-			changed.Atoms[k].Relation = sampleNames[(i+k/2)%len(sampleNames)]
-			slices.Reverse(changed.Atoms[k].Vars)
-		}
+		changed := withSameGraph(q, i)
 		for v := range q.VariableCount {
 			if plainOrder(impl.Neighbors(q, v), impl.Neighbors(changed, v)) != 0 || impl.VariableDegree(q, v) != impl.VariableDegree(changed, v) {
 				t.Fatalf("variable %d of %s and of %s", v, describeQuery(q), describeQuery(changed))
