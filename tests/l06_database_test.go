@@ -766,32 +766,38 @@ func databaseCalls() []databaseCall {
 	}
 }
 
-// checkDatabaseMemory calls each function with guarded arguments, overwrites
-// its result and looks for the change in the arguments and in other results.
+// databaseMemoryProblem overwrites the result of a call and looks for the change
+// in the results of other calls and in the arguments.
+func databaseMemoryProblem(call func() (impl.Database, bool), areArgumentsAsBefore func() bool) string {
+	result, ok := call()
+	want := cloneOfDatabase(result)
+	again, againOk := call()
+	overwriteDatabase(result)
+	// The next call might restore the values that were overwritten.
+	kept := cloneOfDatabase(again)
+	later, laterOk := call()
+	switch {
+	case !sameDatabases(kept, want) || !sameDatabases(later, want) || againOk != ok || laterOk != ok:
+		return "the result changes with the previous one"
+	case tablesShareMemory(again):
+		return "parts of the result share memory"
+	case !areArgumentsAsBefore():
+		return "the call or a write to its result modifies an argument"
+	}
+	return ""
+}
+
+// checkDatabaseMemory calls each function with guarded arguments.
 func checkDatabaseMemory(t *testing.T, first impl.Database, name string, second impl.Relation) {
 	t.Helper()
 	db, isDatabaseAsBefore := guardedDatabase(first)
 	r, isRelationAsBefore := guardedRelation(second)
+	areAsBefore := func() bool { return isDatabaseAsBefore() && isRelationAsBefore() }
 	impl.IsValidDatabase(db)
 	impl.EqualDatabases(db, first)
 	for _, c := range databaseCalls() {
-		result, ok := c.call(db, name, r)
-		want := cloneOfDatabase(result)
-		again, againOk := c.call(db, name, r)
-		overwriteDatabase(result)
-		// The next call might restore the values that were overwritten.
-		kept := cloneOfDatabase(again)
-		later, laterOk := c.call(db, name, r)
-		problem := ""
-		switch {
-		case !sameDatabases(kept, want) || !sameDatabases(later, want) || againOk != ok || laterOk != ok:
-			problem = "the result changes with the previous one"
-		case tablesShareMemory(again):
-			problem = "parts of the result share memory"
-		case !isDatabaseAsBefore() || !isRelationAsBefore():
-			problem = "the call or a write to its result modifies an argument"
-		}
-		if problem != "" {
+		call := func() (impl.Database, bool) { return c.call(db, name, r) }
+		if problem := databaseMemoryProblem(call, areAsBefore); problem != "" {
 			t.Fatalf("%s(%s, %.20q, %s): %s", c.name, describeDatabase(first), name, describe(second), problem)
 		}
 	}

@@ -395,20 +395,25 @@ func TestJoinTreesWithOneFault(t *testing.T) {
 	}
 }
 
+// valuesOfRows returns for each row the value of each variable.
+func valuesOfRows(variables []int, rows [][]int) []map[int]int {
+	var all []map[int]int
+	for _, row := range rows {
+		values := map[int]int{}
+		for i, v := range variables {
+			values[v] = row[i]
+		}
+		all = append(all, values)
+	}
+	return all
+}
+
 // rowsOfAtoms returns for each atom the values of its variables in each row that
 // fits it.
 func rowsOfAtoms(db impl.Database, q impl.Query) [][]map[int]int {
 	var all [][]map[int]int
 	for _, a := range q.Atoms {
-		var rows []map[int]int
-		for _, row := range plainAtomBindings(db, a).Rows {
-			values := map[int]int{}
-			for i, v := range plainAtomVariables(a) {
-				values[v] = row[i]
-			}
-			rows = append(rows, values)
-		}
-		all = append(all, rows)
+		all = append(all, valuesOfRows(plainAtomVariables(a), plainAtomBindings(db, a).Rows))
 	}
 	return all
 }
