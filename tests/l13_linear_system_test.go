@@ -1114,6 +1114,29 @@ func matrixSharesMemory(matrix [][]impl.Rational) bool {
 	return false
 }
 
+// matrixMemoryProblem overwrites results and looks for the change in other
+// results and in the arguments.
+func matrixMemoryProblem(call func() ([][]impl.Rational, impl.Rational, bool), areArgumentsAsBefore func() bool) string {
+	first, value, ok := call()
+	want := cloneOfMatrix(first)
+	second, secondValue, secondOk := call()
+	overwriteMatrix(first)
+	// The next call might restore the numbers that were overwritten.
+	kept := cloneOfMatrix(second)
+	third, thirdValue, thirdOk := call()
+	switch {
+	case !sameMatrices(kept, want) || !sameMatrices(third, want):
+		return "the result changes with the previous one"
+	case secondValue != value || thirdValue != value || secondOk != ok || thirdOk != ok:
+		return "the value changes"
+	case matrixSharesMemory(second) || !sameMatrices(third, want):
+		return "parts of the results share memory"
+	case !areArgumentsAsBefore():
+		return "the call or a write to its result modifies an argument"
+	}
+	return ""
+}
+
 type systemCall struct {
 	name string
 	call func(matrix [][]impl.Rational, list []impl.Rational) ([][]impl.Rational, bool)
@@ -1183,21 +1206,13 @@ func TestLinearSystemMemory(t *testing.T) {
 			matrix, isMatrixAsBefore := guardedMatrix(original)
 			list, array := guardedRationals(lists[i])
 			savedArray := slices.Clone(array)
-			first, ok := c.call(matrix, list)
-			want := cloneOfMatrix(first)
-			second, secondOk := c.call(matrix, list)
-			overwriteMatrix(first)
-			// The next call might restore the numbers that were overwritten.
-			kept := cloneOfMatrix(second)
-			third, thirdOk := c.call(matrix, list)
-			if !sameMatrices(kept, want) || !sameMatrices(third, want) || secondOk != ok || thirdOk != ok {
-				t.Fatalf("%s(%s, %v): the result changes with the previous one", c.name, describeMatrix(original), lists[i])
+			areAsBefore := func() bool { return isMatrixAsBefore() && sameRationals(array, savedArray) }
+			call := func() ([][]impl.Rational, impl.Rational, bool) {
+				result, ok := c.call(matrix, list)
+				return result, impl.Rational{}, ok
 			}
-			if matrixSharesMemory(second) || !sameMatrices(third, want) {
-				t.Fatalf("%s(%s, %v): rows of the results share memory", c.name, describeMatrix(original), lists[i])
-			}
-			if !isMatrixAsBefore() || !sameRationals(array, savedArray) {
-				t.Fatalf("%s(%s, %v): the call or a write to its result modifies an argument", c.name, describeMatrix(original), lists[i])
+			if problem := matrixMemoryProblem(call, areAsBefore); problem != "" {
+				t.Fatalf("%s(%s, %v): %s", c.name, describeMatrix(original), lists[i], problem)
 			}
 		}
 	}

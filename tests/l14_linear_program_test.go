@@ -1195,21 +1195,10 @@ func TestLinearProgramMemory(t *testing.T) {
 			savedArray := slices.Clone(array)
 			for _, c := range programCalls(point) {
 				p, isAsBefore := guardedProgram(original)
-				first, value, ok := c.call(p)
-				want := cloneOfMatrix(first)
-				second, secondValue, secondOk := c.call(p)
-				overwriteMatrix(first)
-				// The next call might restore the numbers that were overwritten.
-				kept := cloneOfMatrix(second)
-				third, thirdValue, thirdOk := c.call(p)
-				if !sameMatrices(kept, want) || !sameMatrices(third, want) || secondValue != value || thirdValue != value || secondOk != ok || thirdOk != ok {
-					t.Fatalf("%s(%s): the result changes with the previous one", c.name, describeProgram(original))
-				}
-				if matrixSharesMemory(second) || !sameMatrices(third, want) {
-					t.Fatalf("%s(%s): parts of the results share memory", c.name, describeProgram(original))
-				}
-				if !isAsBefore() || !sameRationals(array, savedArray) {
-					t.Fatalf("%s(%s): the call or a write to its result modifies an argument", c.name, describeProgram(original))
+				areAsBefore := func() bool { return isAsBefore() && sameRationals(array, savedArray) }
+				call := func() ([][]impl.Rational, impl.Rational, bool) { return c.call(p) }
+				if problem := matrixMemoryProblem(call, areAsBefore); problem != "" {
+					t.Fatalf("%s(%s): %s", c.name, describeProgram(original), problem)
 				}
 			}
 		}
